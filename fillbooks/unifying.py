@@ -1,0 +1,181 @@
+"""Terms of variables by which the two terms of each pair become the same.
+
+No term is written out before its size is known: terms may double and double. The parts of the
+terms are numbered, those that have to be the same are brought into one class, and each class is
+looked at once.
+"""
+
+from fillbooks.errors import InvalidPairs, TooMany
+from fillbooks.terms import is_term
+
+MOST_PAIRS = 10
+MOST_TOLD_WORDS = 60
+
+
+def unified(pairs):
+    """Return the most general terms that make the pairs the same, as a dict; None if there are none."""
+    if not _are_pairs(pairs):
+        raise InvalidPairs("this is not a list of pairs of terms")
+    return solution(pairs, MOST_TOLD_WORDS)
+
+
+def solution(pairs, bound):
+    """Return what unified returns, for any number of pairs of any size, with a bound of its own.
+
+    Any string is a variable here.
+    """
+    parts, inner = _numbered(pairs)
+    leaders = _merged(parts, inner, _sames(parts, len(pairs)))
+    if leaders is None:
+        return None
+    classes = _classes(parts, inner, leaders)
+    order = _inmost_first(classes)
+    if order is None:
+        return None
+    sizes = _sizes(classes, order)
+    homes = {part: leaders[k] for k, part in enumerate(parts) if isinstance(part, str)}
+    if any([sizes[home] > bound for home in homes.values()]):
+        raise TooMany("a term has too many names and variables")
+    terms = _terms(classes, [k for k in order if sizes[k] <= bound])
+    return {variable: terms[homes[variable]] for variable in sorted(homes)}
+
+
+def _are_pairs(value):
+    if not isinstance(value, list) or len(value) > MOST_PAIRS:
+        return False
+    return all([_is_pair(pair) for pair in value])
+
+
+def _is_pair(value):
+    return isinstance(value, tuple) and len(value) == 2 and all([is_term(term) for term in value])
+
+
+def _numbered(pairs):
+    """Return a list of all parts of the pairs, and for each one the numbers of those right in it.
+
+    The terms of the pairs stand first, those of a pair side by side.
+    """
+    parts = [term for pair in pairs for term in pair]
+    inner = []
+    while len(inner) < len(parts):
+        part = parts[len(inner)]
+        within = () if isinstance(part, str) else part[1]
+        inner.append(list(range(len(parts), len(parts) + len(within))))
+        parts.extend(within)
+    return parts, inner
+
+
+def _sames(parts, many):
+    """Return the pairs of numbers of those parts that have to be the same by themselves.
+
+    They are the two terms of each of so many pairs, and a variable wherever it stands.
+    """
+    first = {}
+    same = [(2 * k, 2 * k + 1) for k in range(many)]
+    for k, part in enumerate(parts):
+        if isinstance(part, str):
+            same.append((first.setdefault(part, k), k))
+    return same
+
+
+def _merged(parts, inner, same):
+    """Return for each part the number of the one that leads its class; None if unlike parts would be one.
+
+    A made thing leads its class wherever there is one in it. The smaller of two classes hangs
+    under the greater one, so that the way from a part to the top of its class stays short.
+    """
+    tops = list(range(len(parts)))
+    leaders = list(range(len(parts)))
+    weights = [1] * len(parts)
+    todo = list(same)
+    while todo:
+        one, other = todo.pop()
+        high, low = _top(tops, one), _top(tops, other)
+        if high == low:
+            continue
+        if weights[high] < weights[low]:
+            high, low = low, high
+        tops[low] = high
+        weights[high] = weights[high] + weights[low]
+        one, other = leaders[high], leaders[low]
+        if isinstance(parts[one], str):
+            leaders[high] = other
+        elif not isinstance(parts[other], str):
+            if not _can_be_one(parts[one], parts[other]):
+                return None
+            todo.extend(list(zip(inner[one], inner[other])))
+    return [leaders[_top(tops, k)] for k in range(len(parts))]
+
+
+def _top(tops, number):
+    while tops[number] != number:
+        number = tops[number]
+    return number
+
+
+def _can_be_one(one, other):
+    """Tell whether two made things have the same name and the same number of terms."""
+    return one[0] == other[0] and len(one[1]) == len(other[1])
+
+
+def _classes(parts, inner, leaders):
+    """Return what each class is, by the number of its leader.
+
+    It is a variable, the least one of the class, or the name of a made thing with the numbers of
+    the classes of what stands in it.
+    """
+    classes = {}
+    for part, leader in zip(parts, leaders):
+        if isinstance(parts[leader], str):
+            classes[leader] = min(part, classes.get(leader, part))
+        else:
+            classes[leader] = parts[leader][0], [leaders[k] for k in inner[leader]]
+    return classes
+
+
+def _within(told):
+    """Return the numbers of the classes that stand right in what _classes tells of a class."""
+    return [] if isinstance(told, str) else told[1]
+
+
+def _inmost_first(classes):
+    """Return the numbers of the classes, each behind those that stand in it; None if one stands in itself."""
+    users = {}
+    waits = {}
+    for k in classes:
+        users[k] = []
+    for k, told in classes.items():
+        within = _within(told)
+        waits[k] = len(within)
+        for part in within:
+            users[part].append(k)
+    order = [k for k in classes if waits[k] == 0]
+    done = 0
+    while done < len(order):
+        now = order[done]
+        done += 1
+        for user in users[now]:
+            waits[user] = waits[user] - 1
+            if waits[user] == 0:
+                order.append(user)
+    return order if len(order) == len(classes) else None
+
+
+def _sizes(classes, order):
+    """Return how many names and variables the term of each class has."""
+    sizes = {}
+    for k in order:
+        sizes[k] = 1 + sum([sizes[part] for part in _within(classes[k])])
+    return sizes
+
+
+def _terms(classes, order):
+    """Return the terms of these classes, each of which stands behind those that stand in it."""
+    terms = {}
+    for k in order:
+        told = classes[k]
+        if isinstance(told, str):
+            terms[k] = told
+        else:
+            terms[k] = told[0], tuple([terms[part] for part in told[1]])
+    return terms
