@@ -46,8 +46,19 @@ def is_term(value):
     return 1 <= _words(value, MOST_LEVELS) <= MOST_WORDS
 
 
+def has_form(value):
+    """Tell whether the value is a name and a tuple of a few things, whatever these may be."""
+    if not isinstance(value, tuple) or len(value) != 2:
+        return False
+    name, parts = value
+    return is_name(name) and isinstance(parts, tuple) and len(parts) <= MOST_TERMS
+
+
 def variable_places(term):
-    """Return a list of the variables of a term of any size, one for each place where one stands."""
+    """Return a list of the variables of a term of any size, one for each place where one stands, in their order.
+
+    An atom may be passed, too: it has the form of a term.
+    """
     found = []
     todo = [term]
     while todo:
@@ -55,8 +66,35 @@ def variable_places(term):
         if isinstance(part, str):
             found.append(part)
         else:
-            todo.extend(part[1])
+            todo.extend(part[1][::-1])
     return found
+
+
+def in_order(terms):
+    """Return a list of the variables of these terms or atoms, each once, in the order in which they stand in them."""
+    return list({name: True for term in terms for name in variable_places(term)})
+
+
+def names_in(terms):
+    """Return the ascending list of the names that stand in these terms."""
+    found = {}
+    todo = list(terms)
+    while todo:
+        part = todo.pop()
+        if not isinstance(part, str):
+            found[part[0]] = True
+            todo.extend(part[1])
+    return sorted(found)
+
+
+def nth_variable(number):
+    """Return the variable with this number in the row `A` to `Z`, `AA` to `AZ`, `BA` and so on."""
+    signs = VARIABLE_SIGNS[number % 26]
+    rest = number // 26
+    while rest > 0:
+        signs = VARIABLE_SIGNS[(rest - 1) % 26] + signs
+        rest = (rest - 1) // 26
+    return signs
 
 
 def replaced(term, ways):
@@ -79,7 +117,7 @@ def _words(value, levels):
         return 0
     if isinstance(value, str):
         return 1 if is_variable(value) else 0
-    if not _has_form(value):
+    if not has_form(value):
         return 0
     many = 1
     for part in value[1]:
@@ -88,14 +126,6 @@ def _words(value, levels):
             return 0
         many = many + inner
     return many
-
-
-def _has_form(value):
-    """Tell whether the value is a name and a tuple of a few things, whatever these may be."""
-    if not isinstance(value, tuple) or len(value) != 2:
-        return False
-    name, parts = value
-    return is_name(name) and isinstance(parts, tuple) and len(parts) <= MOST_TERMS
 
 
 def _are_ways(value):

@@ -1,7 +1,8 @@
-"""What several tests use: a limit of time, invalid values, terms of a wanted size, drawn terms."""
+"""What several tests use: a limit of time, invalid values, things of a wanted size, drawn things, slow answers."""
 
 import contextlib
 import copy
+import itertools
 import signal
 
 
@@ -115,3 +116,146 @@ def drawn_term(draw, variables, deep, names=(("a", 0), ("b", 0), ("f", 1), ("f",
         return draw.choice(variables)
     name, many = draw.choice([row for row in names if row[1] == 0 or deep > 1])
     return (name, tuple(drawn_term(draw, variables, deep - 1, names) for _ in range(many)))
+
+
+A, B, C = ("a", ()), ("b", ()), ("c", ())
+
+
+def atom(relation, *terms):
+    return (relation, terms)
+
+
+def atoms(many, relation="p", term="X"):
+    """A tuple of so many unlike atoms, with this term in each of them."""
+    return tuple((relation, (term, (f"n{k}", ()))) for k in range(many))
+
+
+def rule_of(body, heads):
+    """A rule of so many atoms in its body and so many heads."""
+    return (atoms(body), atoms(heads, "q"))
+
+
+def book_of(rules, heads):
+    """A book of so many rules with so many heads altogether, spread as evenly as can be."""
+    shares = [heads // rules + (1 if k < heads % rules else 0) for k in range(rules)]
+    return tuple((atoms(1, f"p{k}"), atoms(share, "q")) for k, share in enumerate(shares))
+
+
+def renamed(term, ways):
+    """The term, or the atom, with these variables put for its variables, where they are told."""
+    if isinstance(term, str):
+        return ways.get(term, term)
+    return (term[0], tuple(renamed(part, ways) for part in term[1]))
+
+
+def variables_of(term):
+    """The set of the variables of a term or an atom."""
+    return {term} if isinstance(term, str) else {name for part in term[1] for name in variables_of(part)}
+
+
+SMALL_RULE = ((("p", ("X",)),), (("q", ("X",)),))
+
+GOOD_ATOMS = [("p", ("X",) * many) for many in range(1, 5)] + [("abcdefgh", (A,)), ("0", ("XYZ",))]
+GOOD_ATOMS += [("p", (term,)) for term in GOOD_TERMS] + [("p", (full_term(30),) * 4), ("p", (chain(6),) * 4)]
+
+BAD_ATOMS = [
+    None, True, False, 0, 10 ** 29, "", "X", "p(X)", "p", [], (), {}, ("p",), ("p", ()), ("p", ("X",) * 5), ["p", ("X",)],
+    ("p", ["X"]), ("p", "X"), ("p", "XY"), ("p", None), ("p", {"X": "X"}), ("p", ("X",), ()), ("X", ("X",)), ("", ("X",)),
+    ("abcdefghi", ("X",)), ("P", ("X",)), (None, ("X",)), (1, ("X",)), (True, ("X",)), (A, ("X",)), ((), ("X",)), ("p", "X", "Y"),
+    ("p", (None,)), ("p", ("X", None)), ("p", (True,)), ("p", (("f", ["X"]),)), ("p", ("X",) * 199), ("p q", ("X",)),
+]
+BAD_ATOMS += [("p", (term,)) for term in BAD_TERMS] + [("p", ("X", A, "Y", term)) for term in BAD_TERMS[::3]]
+
+GOOD_RULES = [rule_of(body, heads) for body in range(1, 5) for heads in range(1, 4)]
+GOOD_RULES += [((atom,), (atom,)) for atom in GOOD_ATOMS] + [((("p", ("X", "Y")),) * 4, (("q", (A,)),) * 3)]
+GOOD_RULES += [((("p", (A,)),), (("p", (A,)),)), ((("p", ("X",)), ("p", ("Y",))), (("q", ("Y", "X")), ("q", ("X",))))]
+
+BAD_RULES = [
+    None, True, False, 0, 7, "", "X", "p(X) -> q(X)", [], (), {}, ((), ()), SMALL_RULE[:1], SMALL_RULE + ((),), list(SMALL_RULE),
+    (SMALL_RULE[0], list(SMALL_RULE[1])), (list(SMALL_RULE[0]), SMALL_RULE[1]), (SMALL_RULE[0], None), (None, SMALL_RULE[1]),
+    (SMALL_RULE[0], ()), ((), SMALL_RULE[1]), ((), (("q", (A,)),)), (True, False), (SMALL_RULE, SMALL_RULE), (SMALL_RULE,),
+    (("p", ("X",)), ("q", ("X",))), {SMALL_RULE[0]: SMALL_RULE[1]}, "XY", rule_of(5, 1), rule_of(4, 4), rule_of(1, 4), rule_of(5, 3),
+    rule_of(199, 1), rule_of(1, 199), ((("p", ("X",)),), (("q", ("Y",)),)), ((("p", (A,)),), (("q", ("X",)),)),
+    ((("p", ("X", "Y")),), (("q", ("X",)), ("q", ("Y",)), ("q", ("XY",)))), ((("p", ("X",)),), (("q", (("f", ("X", "Z")),)),)),
+    nested(50, lambda thing: (thing,)), nested(20, lambda thing: (thing, (thing,)) if thing == "X" else (thing, ())),
+    (nested(12, lambda thing: ("f", (thing, thing))),) * 2,
+]
+BAD_RULES += [((bad,), SMALL_RULE[1]) for bad in BAD_ATOMS] + [(SMALL_RULE[0], (bad,)) for bad in BAD_ATOMS]
+BAD_RULES += [(SMALL_RULE[0] + (bad,), SMALL_RULE[1]) for bad in BAD_ATOMS[::4]]
+BAD_RULES += [(SMALL_RULE[0], SMALL_RULE[1] + (bad,)) for bad in BAD_ATOMS[::4]]
+
+GOOD_BOOKS = [(), (SMALL_RULE,), (SMALL_RULE,) * 24, book_of(24, 24), book_of(8, 24), book_of(10, 24), book_of(1, 3), book_of(23, 24)]
+
+BAD_BOOKS = [
+    None, True, False, 0, 7, "", "X", "p(X) -> q(X)\n", [], {}, [SMALL_RULE], list(book_of(3, 3)), SMALL_RULE, (SMALL_RULE[0],),
+    {SMALL_RULE: True}, (SMALL_RULE,) * 25, (SMALL_RULE,) * 200, book_of(25, 25), book_of(24, 25), book_of(9, 25), book_of(13, 25),
+    book_of(24, 72), ((SMALL_RULE,),), ((),), (None,), nested(50, lambda thing: (thing,)),
+]
+BAD_BOOKS += [(bad,) for bad in BAD_RULES[::3]] + [(SMALL_RULE, bad) for bad in BAD_RULES[1::7]]
+BAD_BOOKS += [(bad, SMALL_RULE) for bad in BAD_RULES[2::7]]
+
+GOOD_FACTS = [renamed(atom, {name: A for name in variables_of(atom)}) for atom in GOOD_ATOMS]
+BAD_FACTS = BAD_ATOMS + [("p", ("X",)), ("p", (A, "X")), ("p", (("f", (A, ("g", ("ABC",)))),)), ("p", (A, A, A, "Z"))]
+
+GOOD_STORES = [[], [("p", (A,))], [("p", (A,))] * 30, GOOD_FACTS[:30]]
+BAD_STORES = [
+    None, True, False, 0, 3, "", "X", "p(a)", (), {}, ("p", (A,)), (("p", (A,)),), {("p", (A,)): True}, [[("p", (A,))]], [()], [None],
+    [("p", (A,))] * 31, [("p", (A,))] * 200, [("p", ((f"n{k}", ()),)) for k in range(31)], nested(50, lambda thing: [thing]),
+]
+BAD_STORES += [[bad] for bad in BAD_FACTS] + [[("p", (A,)), bad, ("p", (B,))] for bad in BAD_FACTS[::5]]
+
+BAD_ROWS = [
+    None, True, False, 0, 2, "", "X", (), {}, [], ((SMALL_RULE,),), (), [SMALL_RULE], [[]], [[SMALL_RULE]], SMALL_RULE, (SMALL_RULE,),
+    [()] * 9, [(SMALL_RULE,)] * 9, [(SMALL_RULE,)] * 200, nested(50, lambda thing: [thing]),
+]
+BAD_ROWS += [[bad] for bad in BAD_BOOKS] + [[(), bad] for bad in BAD_BOOKS[::4]] + [[bad, ()] for bad in BAD_BOOKS[1::4]]
+
+
+def check_raises(test, error, bad_values, call):
+    """Have the test fail if the call, of each of these values, does not raise the error, or changes the value."""
+    for value in bad_values:
+        with test.subTest(value=str(value)[:300]), within_seconds():
+            test.assertRaises(error, unchanged, test, call, value)
+
+
+def slow_lays(body, store):
+    """All ways to lay a body into a store: dicts, each once, found by a look at each choice of facts."""
+    found = []
+    for choice in itertools.product([fact for at, fact in enumerate(store) if fact not in store[:at]], repeat=len(body)):
+        ways = {}
+        if all(slow_match(part, fact, ways) for part, fact in zip(body, choice)) and ways not in found:
+            found.append(ways)
+    return found
+
+
+def slow_match(part, value, ways):
+    if isinstance(part, str):
+        return ways.setdefault(part, value) == value
+    if part[0] != value[0] or len(part[1]) != len(value[1]):
+        return False
+    return all(slow_match(inner, other, ways) for inner, other in zip(part[1], value[1]))
+
+
+def slow_fill(book, store):
+    """The filling, in any number of facts of any size."""
+    return sorted({renamed(head, ways) for body, heads in book for ways in slow_lays(body, store) for head in heads})
+
+
+def drawn_rule(draw, variables="XYZ", relations=(("p", 2), ("p", 1), ("r", 1)), told=(("q", 2), ("q", 1)), deep=1, heads=1,
+               most=3):
+    """A drawn rule; its heads have only variables of its body."""
+    body = tuple(drawn_atom(draw, variables, relations, deep) for _ in range(draw.randint(1, most)))
+    known = sorted(set().union(*[variables_of(part) for part in body])) or [A]
+    return (body, tuple(drawn_atom(draw, known, told, deep) for _ in range(draw.randint(1, heads))))
+
+
+def drawn_atom(draw, variables, relations, deep=1):
+    relation, many = draw.choice(relations)
+    return (relation, tuple(drawn_part(draw, variables, deep) for _ in range(many)))
+
+
+def drawn_part(draw, variables, deep):
+    """Mostly a variable."""
+    if draw.random() < 0.8:
+        return draw.choice(variables)
+    return draw.choice([A, B]) if deep == 1 else drawn_term(draw, variables, deep, (("a", 0), ("f", 1), ("g", 2)))

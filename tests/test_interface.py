@@ -9,6 +9,9 @@ PACKAGE = pathlib.Path(__file__).resolve().parent.parent / "fillbooks"
 FUNCTIONS = {
     "terms.py": {"check_term": ["term"], "variables_in": ["term"], "put": ["term", "ways"]},
     "unifying.py": {"unified": ["pairs"]},
+    "books.py": {"check_rule": ["rule"], "check_book": ["book"], "relations": ["book"]},
+    "texts.py": {"term_text": ["term"], "read_term": ["text"], "rule_text": ["rule"], "read_rule": ["text"], "book_text": ["book"]},
+    "filling.py": {"fill": ["book", "store"], "lays": ["rule", "store"]},
 }
 
 
