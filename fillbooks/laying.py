@@ -61,7 +61,7 @@ class Ground:
     """
 
     def __init__(self, values, facts):
-        self.values = values
+        self.source = values
         self.kept = {}
         self.rows = {}
         for relation, numbers in facts:
@@ -134,7 +134,7 @@ class Ground:
                 if ways.setdefault(term, number) != number:
                     return None
             else:
-                name, parts = self.values.made_of[number]
+                name, parts = self.source.made_of[number]
                 if name != term[0] or len(parts) != len(term[1]):
                     return None
                 todo.extend(list(zip(term[1], parts)))

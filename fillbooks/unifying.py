@@ -6,6 +6,7 @@ looked at once.
 """
 
 from fillbooks.errors import InvalidPairs, TooMany
+from fillbooks.rows import row_sizes, written
 from fillbooks.terms import is_term
 
 MOST_PAIRS = 10
@@ -16,15 +17,25 @@ def unified(pairs):
     """Return the most general terms that make the pairs the same, as a dict; None if there are none."""
     if not _are_pairs(pairs):
         raise InvalidPairs("this is not a list of pairs of terms")
-    return solution(pairs, MOST_TOLD_WORDS)
+    merged = merged_rows(pairs, [], MOST_TOLD_WORDS)
+    if merged is None:
+        return None
+    rows, homes, _ = merged
+    terms = written(rows)
+    return {variable: terms[homes[variable]] for variable in sorted(homes)}
 
 
-def solution(pairs, bound):
-    """Return what unified returns, for any number of pairs of any size, with a bound of its own.
+def merged_rows(pairs, others, bound):
+    """Return what comes of pairs and other terms where the two of each pair are made the same; None if they cannot be.
 
-    Any string is a variable here.
+    Told are the rows of it (see rows.py), a dict of the variables that stood in these terms and
+    the numbers of their rows, and the list of the numbers of the rows of the other terms. Any
+    string is a variable here, and atoms are terms. TooMany is raised if the term of some variable
+    has more names and variables than the bound; None is no bound.
     """
-    parts, inner = _numbered(pairs)
+    if any([_are_apart(one, other) for one, other in pairs]):
+        return None
+    parts, inner = _numbered(pairs, others)
     leaders = _merged(parts, inner, _sames(parts, len(pairs)))
     if leaders is None:
         return None
@@ -32,12 +43,15 @@ def solution(pairs, bound):
     order = _inmost_first(classes)
     if order is None:
         return None
-    sizes = _sizes(classes, order)
-    homes = {part: leaders[k] for k, part in enumerate(parts) if isinstance(part, str)}
-    if any([sizes[home] > bound for home in homes.values()]):
-        raise TooMany("a term has too many names and variables")
-    terms = _terms(classes, [k for k in order if sizes[k] <= bound])
-    return {variable: terms[homes[variable]] for variable in sorted(homes)}
+    places = {leader: row for row, leader in enumerate(order)}
+    rows = [_row(classes[leader], places) for leader in order]
+    homes = {part: places[leaders[k]] for k, part in enumerate(parts) if isinstance(part, str)}
+    if bound is not None:
+        sizes = row_sizes(rows)
+        if any([sizes[row] > bound for row in homes.values()]):
+            raise TooMany("a term has too many names and variables")
+    first = 2 * len(pairs)
+    return rows, homes, [places[leader] for leader in leaders[first:first + len(others)]]
 
 
 def _are_pairs(value):
@@ -50,12 +64,25 @@ def _is_pair(value):
     return isinstance(value, tuple) and len(value) == 2 and all([is_term(term) for term in value])
 
 
-def _numbered(pairs):
-    """Return a list of all parts of the pairs, and for each one the numbers of those right in it.
+def _are_apart(one, other):
+    """Tell whether the two have unlike names at one place: nothing else has to be looked at then."""
+    todo = [(one, other)]
+    while todo:
+        left, right = todo.pop()
+        if isinstance(left, str) or isinstance(right, str):
+            continue
+        if not _can_be_one(left, right):
+            return True
+        todo.extend(list(zip(left[1], right[1])))
+    return False
 
-    The terms of the pairs stand first, those of a pair side by side.
+
+def _numbered(pairs, others):
+    """Return a list of all parts of these terms, and for each one the numbers of those right in it.
+
+    The terms of the pairs stand first, those of a pair side by side, and the others behind them.
     """
-    parts = [term for pair in pairs for term in pair]
+    parts = [term for pair in pairs for term in pair] + list(others)
     inner = []
     while len(inner) < len(parts):
         part = parts[len(inner)]
@@ -161,21 +188,6 @@ def _inmost_first(classes):
     return order if len(order) == len(classes) else None
 
 
-def _sizes(classes, order):
-    """Return how many names and variables the term of each class has."""
-    sizes = {}
-    for k in order:
-        sizes[k] = 1 + sum([sizes[part] for part in _within(classes[k])])
-    return sizes
-
-
-def _terms(classes, order):
-    """Return the terms of these classes, each of which stands behind those that stand in it."""
-    terms = {}
-    for k in order:
-        told = classes[k]
-        if isinstance(told, str):
-            terms[k] = told
-        else:
-            terms[k] = told[0], tuple([terms[part] for part in told[1]])
-    return terms
+def _row(told, places):
+    """Return the row of what _classes tells of a class, by the places of the others."""
+    return told if isinstance(told, str) else (told[0], tuple([places[k] for k in told[1]]))

@@ -5,6 +5,8 @@ import copy
 import itertools
 import signal
 
+from fillbooks.texts import read_rule, read_term
+
 
 class TooSlow(AssertionError):
     """A call did not return within a few seconds."""
@@ -259,3 +261,90 @@ def drawn_part(draw, variables, deep):
     if draw.random() < 0.8:
         return draw.choice(variables)
     return draw.choice([A, B]) if deep == 1 else drawn_term(draw, variables, deep, (("a", 0), ("f", 1), ("g", 2)))
+
+
+def rules(*texts):
+    """A book of these texts."""
+    return tuple(map(read_rule, texts))
+
+
+def facts(*texts):
+    """A store of these texts; the text of a fact is read as that of a term."""
+    return [read_term(text) for text in texts]
+
+
+def numbered_facts(many, relation="p"):
+    """So many facts of one constant each."""
+    return [(relation, ((f"n{k}", ()),)) for k in range(many)]
+
+
+def frozen(rule):
+    """The body, as a store, and the heads of a rule, with a constant of its own for each variable."""
+    ways = {name: ("own" + name.lower(), ()) for part in rule[0] for name in variables_of(part)}
+    return [renamed(part, ways) for part in rule[0]], [renamed(part, ways) for part in rule[1]]
+
+
+def slow_never_more(one, other):
+    """Whether the other book tells all heads of the bodies of the one, by a look at their fillings."""
+    return all(set(frozen(rule)[1]) <= set(slow_fill(other, frozen(rule)[0])) for rule in one)
+
+
+def slow_alike(one, other):
+    return slow_never_more(one, other) and slow_never_more(other, one)
+
+
+def all_stores(kinds, values, most):
+    """All stores of at most so many unlike facts of these relations, with these values, the smallest first."""
+    known = [(relation, row) for relation, many in kinds for row in itertools.product(values, repeat=many)]
+    return [list(chosen) for many in range(most + 1) for chosen in itertools.combinations(known, many)]
+
+
+def drawn_store(draw, most=8, values=(A, B, ("f", (A,)), ("g", (A, B)), ("f", (("f", (B,)),))),
+                kinds=(("p", 2), ("p", 1), ("r", 1))):
+    """A drawn store, perhaps with repetitions."""
+    store = []
+    for _ in range(draw.randint(0, most)):
+        relation, many = draw.choice(kinds)
+        store.append((relation, tuple(draw.choice(values) for _ in range(many))))
+    return store
+
+
+def drawn_book(draw, many=3, **wanted):
+    """A drawn book of at most so many rules."""
+    return tuple(drawn_rule(draw, **wanted) for _ in range(draw.randint(0, many)))
+
+
+def alike_book(draw, book):
+    """A book that fills all stores alike, written in another way."""
+    told = []
+    for body, heads in book:
+        told += [(body, (head,)) for head in heads]
+    told += [weaker(draw, draw.choice(told)) for _ in range(draw.randint(0, 2)) if told]
+    told = [other_way(draw, part) for part in told]
+    draw.shuffle(told)
+    return tuple(told)
+
+
+def weaker(draw, rule):
+    """A rule that tells no more: with terms put for some variables, or with one more atom."""
+    body, heads = rule
+    names = sorted(set().union(*[variables_of(part) for part in body]))
+    ways = {name: draw.choice([A, B] + names) for name in names if draw.random() < 0.4}
+    body, heads = tuple(renamed(part, ways) for part in body), tuple(renamed(part, ways) for part in heads)
+    if len(body) < 4:
+        body += (draw.choice([("p", ("W", "V")), ("r", (A,)), ("p", ("W",))]),)
+    return (body, heads)
+
+
+def other_way(draw, rule):
+    """The rule with other names for its variables, its body in another order, and perhaps a needless atom."""
+    body, heads = list(rule[0]), rule[1]
+    if len(body) < 4 and draw.random() < 0.5:
+        atom = draw.choice(body)
+        kept = set().union(*[variables_of(head) for head in heads])
+        fresh = dict(zip(sorted(variables_of(atom) - kept), ["SA", "SB", "SC", "SD"]))
+        body.append(renamed(atom, {name: come for name, come in fresh.items() if draw.random() < 0.8}))
+    draw.shuffle(body)
+    names = sorted(set().union(*[variables_of(part) for part in body]))
+    ways = dict(zip(names, draw.sample(["A", "B", "C", "D", "X", "Y", "Z", "AA", "QQQ", "ZZ", "K", "L"], len(names))))
+    return (tuple(renamed(part, ways) for part in body), tuple(renamed(part, ways) for part in heads))

@@ -4,31 +4,10 @@ import unittest
 
 from fillbooks.errors import InvalidBook, InvalidRule, InvalidStore, TooMany
 from fillbooks.filling import fill, lays
-from fillbooks.texts import read_rule, read_term
+from fillbooks.texts import read_rule
 from helpers import (A, B, BAD_BOOKS, BAD_RULES, BAD_STORES, C, GOOD_STORES, SMALL_RULE, atom, chain, check_raises, count,
-                     drawn_rule, full_term, slow_fill, slow_lays, unchanged, variables_of, within_seconds)
-
-
-def rules(*texts):
-    return tuple(map(read_rule, texts))
-
-
-def facts(*texts):
-    return [read_term(text) for text in texts]
-
-
-def numbered(many, relation="p"):
-    """So many facts of one constant each."""
-    return [(relation, ((f"n{k}", ()),)) for k in range(many)]
-
-
-def drawn_store(draw, most=8, values=(A, B, ("f", (A,)), ("g", (A, B)), ("f", (("f", (B,)),)))):
-    kinds = [("p", 2), ("p", 1), ("r", 1)]
-    store = []
-    for _ in range(draw.randint(0, most)):
-        relation, many = draw.choice(kinds)
-        store.append((relation, tuple(draw.choice(values) for _ in range(many))))
-    return store
+                     drawn_rule, drawn_store, facts, full_term, numbered_facts, rules, slow_fill, slow_lays, unchanged,
+                     variables_of, within_seconds)
 
 
 class TestFill(unittest.TestCase):
@@ -141,7 +120,7 @@ class TestLays(unittest.TestCase):
     def test_one_for_each_way(self):
         rule = read_rule("p(X), p(Y) -> q(X)")
         self.assertEqual(lays(rule, facts("p(a)") * 30), [{"X": A, "Y": A}])
-        self.assertEqual(len(lays(rule, numbered(5) + numbered(7))), 49)
+        self.assertEqual(len(lays(rule, numbered_facts(5) + numbered_facts(7))), 49)
         self.assertEqual(lays(rule, []), [])
 
     def test_beside_a_slow_answer(self):
@@ -185,18 +164,18 @@ class TestTooMany(unittest.TestCase):
 
     def test_at_the_end_of_a_body(self):
         for some, ways in ((10, 1000), (9, 729), (11, None), (12, None), (30, None)):
-            self.check_both("p(X), p(Y), p(Z) -> q(X, Y, Z)", numbered(some), ways)
-        self.check_both("p(X), r(Y), s(Z) -> q(X, Y, Z)", numbered(8) + numbered(5, "r") + numbered(17, "s"), 680)
-        self.check_both("p(X), r(Y), s(Z) -> q(X, Y, Z)", numbered(10) + numbered(10, "r") + numbered(10, "s"), 1000)
-        self.check_both("p(X), r(Y), s(Z) -> q(X, Y, Z)", numbered(9) + numbered(10, "r") + numbered(11, "s"), 990)
-        self.check_both("p(X), r(Y), p(Z) -> q(X, Y, Z)", numbered(10) + numbered(11, "r"), None)
-        self.check_both("p(X), p(Y), r(Z) -> q(a)", numbered(25) + numbered(1, "r"), 625)
-        self.check_both("p(X), p(Y), r(Z) -> q(a)", numbered(28) + numbered(2, "r"), None)
-        self.check_both("p(X), p(Y) -> q(X)", numbered(30), 900)
+            self.check_both("p(X), p(Y), p(Z) -> q(X, Y, Z)", numbered_facts(some), ways)
+        self.check_both("p(X), r(Y), s(Z) -> q(X, Y, Z)", numbered_facts(8) + numbered_facts(5, "r") + numbered_facts(17, "s"), 680)
+        self.check_both("p(X), r(Y), s(Z) -> q(X, Y, Z)", numbered_facts(10) + numbered_facts(10, "r") + numbered_facts(10, "s"), 1000)
+        self.check_both("p(X), r(Y), s(Z) -> q(X, Y, Z)", numbered_facts(9) + numbered_facts(10, "r") + numbered_facts(11, "s"), 990)
+        self.check_both("p(X), r(Y), p(Z) -> q(X, Y, Z)", numbered_facts(10) + numbered_facts(11, "r"), None)
+        self.check_both("p(X), p(Y), r(Z) -> q(a)", numbered_facts(25) + numbered_facts(1, "r"), 625)
+        self.check_both("p(X), p(Y), r(Z) -> q(a)", numbered_facts(28) + numbered_facts(2, "r"), None)
+        self.check_both("p(X), p(Y) -> q(X)", numbered_facts(30), 900)
 
     def test_just_one_thousand_and_one(self):
         """Of 10 things and of one alone: 10 times 10 times 10 and one."""
-        store = numbered(7) + numbered(11, "r") + numbered(12, "s")
+        store = numbered_facts(7) + numbered_facts(11, "r") + numbered_facts(12, "s")
         self.check_both("p(X), r(Y), s(Z) -> q(Y)", store, 924)
         self.check_both("p(X), r(Y), s(X), p(Z) -> q(Y)", store, 7 * 11 * 7)
         pairs = [atom("e", (f"n{k}", ()), (f"m{j}", ())) for k in range(3) for j in range(10)]
@@ -210,32 +189,32 @@ class TestTooMany(unittest.TestCase):
         seven = [atom("e", (f"n{k}", ()), (f"m{k}", ())) for k in range(7)]
         self.check_both("e(X, Y), e(Z, W), e(U, V) -> q(X)", seven, 343)
         self.check_both("e(X, Y), e(Z, W), e(U, V), e(X, Z) -> q(X)", seven, 0)
-        self.check_both("e(X, Y), e(Z, W), e(U, V), e(V, Z) -> q(X)", seven + numbered(23, "e"), 0)
+        self.check_both("e(X, Y), e(Z, W), e(U, V), e(V, Z) -> q(X)", seven + numbered_facts(23, "e"), 0)
         eleven = [atom("e", (f"n{k}", ()), (f"m{k}", ())) for k in range(11)]
         self.check_both("e(X, Y), e(Z, W), e(U, V), e(V, Z) -> q(X)", eleven, None)
 
     def test_on_the_way_where_a_later_atom_lets_none(self):
         for some, ways in ((10, 0), (11, None), (29, None)):
-            self.check_both("p(X), p(Y), p(Z), r(W) -> q(X)", numbered(some), ways)
-            self.check_both("p(X), p(Y), p(Z), p(f(X)) -> q(X)", numbered(some), ways)
-            self.check_both("r(W), p(X), p(Y), p(Z) -> q(X)", numbered(some), 0)
-        self.check_both("p(X), p(Y), p(Z), r(X, Y, Z) -> q(X)", numbered(25) + [("r", (A, A, A))], None)
-        self.check_both("p(X), r(X, Y, Z), p(Y), p(Z) -> q(X)", numbered(25) + [("r", (A, A, A))], 0)
-        self.check_both("p(X), p(Y), p(X), p(Y) -> q(X)", numbered(30), 900)
+            self.check_both("p(X), p(Y), p(Z), r(W) -> q(X)", numbered_facts(some), ways)
+            self.check_both("p(X), p(Y), p(Z), p(f(X)) -> q(X)", numbered_facts(some), ways)
+            self.check_both("r(W), p(X), p(Y), p(Z) -> q(X)", numbered_facts(some), 0)
+        self.check_both("p(X), p(Y), p(Z), r(X, Y, Z) -> q(X)", numbered_facts(25) + [("r", (A, A, A))], None)
+        self.check_both("p(X), r(X, Y, Z), p(Y), p(Z) -> q(X)", numbered_facts(25) + [("r", (A, A, A))], 0)
+        self.check_both("p(X), p(Y), p(X), p(Y) -> q(X)", numbered_facts(30), 900)
 
     def test_what_stands_twice_counts_once(self):
-        self.check_both("p(X), p(Y), p(Z) -> q(X)", numbered(10) * 3, 1000)
-        self.check_both("p(X), p(Y), p(Z), p(W) -> q(X)", numbered(5) * 6, 625)
-        self.check_both("p(X), p(Y), p(Z), p(W) -> q(X)", numbered(6) * 5, None)
+        self.check_both("p(X), p(Y), p(Z) -> q(X)", numbered_facts(10) * 3, 1000)
+        self.check_both("p(X), p(Y), p(Z), p(W) -> q(X)", numbered_facts(5) * 6, 625)
+        self.check_both("p(X), p(Y), p(Z), p(W) -> q(X)", numbered_facts(6) * 5, None)
 
     def test_each_rule_by_itself(self):
         book = rules("p(X), p(Y), p(Z) -> q(X, Y, Z)") * 24
         with within_seconds():
-            self.assertEqual(len(fill(book, numbered(10))), 1000)
+            self.assertEqual(len(fill(book, numbered_facts(10))), 1000)
         book = tuple(read_rule(f"p(X), p(Y), p(Z) -> q{k}(X, f(Y, g(Z)))") for k in range(24))
         with within_seconds():
-            self.assertEqual(len(fill(book, numbered(10))), 24000)
-        self.assertRaises(TooMany, fill, book, numbered(11))
+            self.assertEqual(len(fill(book, numbered_facts(10))), 24000)
+        self.assertRaises(TooMany, fill, book, numbered_facts(11))
 
     def test_great_values(self):
         values = [("f", (full_term(28, A), (f"n{k}", ()))) for k in range(10)]
@@ -267,7 +246,7 @@ class TestInvalid(unittest.TestCase):
 
     def test_numbers_of_facts(self):
         for many in range(28, 34):
-            for store in (numbered(many), numbered(1) * many):
+            for store in (numbered_facts(many), numbered_facts(1) * many):
                 if many <= 30:
                     self.assertEqual(len(fill((SMALL_RULE,), store)), len({fact for fact in store}))
                     self.assertEqual(len(lays(SMALL_RULE, store)), len({fact for fact in store}))

@@ -12,6 +12,11 @@ FUNCTIONS = {
     "books.py": {"check_rule": ["rule"], "check_book": ["book"], "relations": ["book"]},
     "texts.py": {"term_text": ["term"], "read_term": ["text"], "rule_text": ["rule"], "read_rule": ["text"], "book_text": ["book"]},
     "filling.py": {"fill": ["book", "store"], "lays": ["rule", "store"]},
+    "comparing.py": {"never_more": ["one", "other"], "alike": ["one", "other"], "parting": ["one", "other"]},
+    "forms.py": {"least_form": ["book"], "reach": ["book"]},
+    "joining.py": {"fill_row": ["books", "store"], "joined": ["one", "other"], "row": ["books"], "identity": ["relations"]},
+    "plain.py": {"is_plain": ["book"], "leads_into": ["one", "other"], "lead_both_ways": ["one", "other"],
+                 "no_lead": ["one", "other"]},
 }
 
 

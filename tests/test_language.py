@@ -32,6 +32,9 @@ BARRED_STARTS = ("__", "_wall", "_pe_", "_dcw_", "_enum_", "_cm_", "_twin_re_", 
 DOUBLE = set("""__init__ __eq__ __repr__ __str__ __len__ __enter__ __exit__ __call__ __iter__ __contains__ __or__
     __rshift__ __ne__""".split())
 DECORATORS = {"property", "staticmethod", "classmethod", "setter"}
+BARRED_ATTRIBUTES = """items keys values pop update append clear extend insert remove reverse setdefault sort args encode
+    decode hex fromhex format format_map mro""".split()
+CHANGING = "append clear extend insert pop remove reverse setdefault sort update add discard".split()
 BARRED_NODES = (ast.Global, ast.AsyncFunctionDef, ast.AsyncFor, ast.AsyncWith, ast.Await, ast.Div, ast.MatMult,
                 ast.Import, ast.TryStar)
 
@@ -66,6 +69,49 @@ def given_names(path):
     found += [node.arg for node in nodes(path, ast.arg)]
     found += [node.name for node in nodes(path, ast.FunctionDef, ast.ClassDef)]
     return found
+
+
+def base_of(node):
+    """The node at the left end of a chain of attributes, items and calls."""
+    while isinstance(node, (ast.Attribute, ast.Subscript, ast.Call)):
+        node = node.func if isinstance(node, ast.Call) else node.value
+    return node
+
+
+def changed_names(function):
+    """The names of what a function changes: an item, an attribute, a list by one of its methods."""
+    found = set()
+    for node in ast.walk(function):
+        if isinstance(node, (ast.Attribute, ast.Subscript)) and not isinstance(node.ctx, ast.Load):
+            found.add(ast.unparse(base_of(node)))
+        if isinstance(node, ast.Call) and isinstance(node.func, ast.Attribute) and node.func.attr in CHANGING:
+            found.add(ast.unparse(base_of(node)))
+    return found
+
+
+def is_made(value):
+    """Whether the value is written as a new list or dict."""
+    if isinstance(value, ast.Call):
+        return ast.unparse(value.func) in ("list", "dict", "sorted")
+    if isinstance(value, ast.BinOp) and isinstance(value.op, (ast.Add, ast.Mult)):
+        return is_made(value.left) or is_made(value.right)
+    return isinstance(value, (ast.List, ast.Dict, ast.ListComp, ast.DictComp))
+
+
+def made_names(function):
+    """The local names of a function that are only ever assigned new lists and dicts."""
+    made, others = set(), {arg.arg for arg in function.args.args}
+    for node in ast.walk(function):
+        if isinstance(node, ast.Assign):
+            for target in node.targets:
+                if isinstance(target, ast.Name):
+                    (made if is_made(node.value) else others).add(target.id)
+                else:
+                    others |= {part.id for part in ast.walk(target) if isinstance(part, ast.Name)
+                               and isinstance(part.ctx, ast.Store)}
+        elif isinstance(node, (ast.For, ast.comprehension)):
+            others |= {part.id for part in ast.walk(node.target) if isinstance(part, ast.Name)}
+    return made - others
 
 
 def on_each_file(check):
@@ -177,6 +223,51 @@ class TestLanguage(unittest.TestCase):
         for node in nodes(path, ast.Call):
             if isinstance(node.func, ast.Attribute):
                 self.assertIn(node.func.attr, METHODS | own)
+
+    @on_each_file
+    def test_local_names(self, path):
+        """No parameter and no local name is that of a class or of an import of the file."""
+        taken = {alias.name for node in nodes(path, ast.ImportFrom) for alias in node.names}
+        taken |= {node.name for node in nodes(path, ast.ClassDef)}
+        local = [node.id for node in nodes(path, ast.Name) if not isinstance(node.ctx, ast.Load)]
+        local += [node.arg for node in nodes(path, ast.arg)]
+        self.assertEqual(sorted(taken & set(local)), [])
+
+    @on_each_file
+    def test_attributes(self, path):
+        for node in nodes(path, ast.Attribute):
+            if not isinstance(node.ctx, ast.Load):
+                self.assertNotIn(node.attr, BARRED_ATTRIBUTES)
+        for kind in nodes(path, ast.ClassDef):
+            methods = {node.name for node in kind.body if isinstance(node, ast.FunctionDef)}
+            kept = {node.attr for node in ast.walk(kind) if isinstance(node, ast.Attribute)
+                    and not isinstance(node.ctx, ast.Load)}
+            self.assertEqual(sorted(methods & kept), [])
+
+    @on_each_file
+    def test_no_generators(self, path):
+        """Where a class has `__eq__`, as it will here, `any`, `sorted` and the like take lists."""
+        self.assertEqual([ast.unparse(node) for node in nodes(path, ast.GeneratorExp, ast.Yield, ast.YieldFrom)], [])
+
+    def test_what_operators_run_changes_nothing(self):
+        """The functions that the operators of a Book run change only lists and dicts that they make themselves."""
+        known = {}
+        for path in files():
+            for node in tree_of(path).body:
+                if isinstance(node, ast.FunctionDef):
+                    known.setdefault(node.name, []).append(node)
+        todo, seen = ["joined", "least_form", "alike", "check_book"], set()
+        while todo:
+            name = todo.pop()
+            if name in seen:
+                continue
+            seen.add(name)
+            for function in known[name]:
+                self.assertEqual(sorted(changed_names(function) - made_names(function)), [], name)
+                calls = [node.func.id for node in ast.walk(function)
+                         if isinstance(node, ast.Call) and isinstance(node.func, ast.Name)]
+                self.assertFalse(set(calls) & {arg.arg for arg in function.args.args}, name)
+                todo += [call for call in calls if call in known]
 
 
 if __name__ == "__main__":
