@@ -54,7 +54,7 @@ def _blocks(body):
     """Return the ways to put the atoms of a body into blocks by which those of each block can be made the same."""
     told = []
     for blocks in _partings(len(body)):
-        if merged_rows(_pairs_in(body, blocks), [], MOST_WORDS) is not None:
+        if merged_rows(body, _pairs_in(blocks), MOST_WORDS) is not None:
             told.append(blocks)
     return told
 
@@ -68,27 +68,27 @@ def _partings(many):
     return ways
 
 
-def _pairs_in(body, blocks):
-    return [(body[block[0]], body[k]) for block in blocks for k in block[1:]]
+def _pairs_in(blocks):
+    return [(block[0], k) for block in blocks for k in block[1:]]
 
 
 def _unlike_stores(told, against, many, constants):
-    """Return the stores of so many facts of which the book does not tell the head of a rule that tells it of them.
+    """Return the stores of so many blocks of which the book does not tell the head of a rule that tells it of them.
 
-    told is a list of bodies, of heads and of the ways to put these bodies into blocks.
+    told is a list of bodies, of heads and of the ways to put these bodies into blocks. If atoms of
+    unlike blocks are the same then, the store has been looked at with fewer blocks.
     """
     merged = []
     for body, head, blocks in told:
         for way in blocks:
             if len(way) == many:
-                rows, homes, places = merged_rows(_pairs_in(body, way), body + (head,), None)
+                rows, homes, places = merged_rows(body + (head,), _pairs_in(way), None)
                 merged.append(([constants[row] if isinstance(row, str) else row for row in rows], homes, places))
-    others = [merged_rows([], body + heads, None) for body, heads in one_headed(against)]
+    others = [merged_rows(body + heads, [], None) for body, heads in one_headed(against)]
     rows, rules = from_merged(merged + others)
     terms = written(rows)
     holders = rules[len(merged):]
-    return [[terms[atom] for atom in rule[0]] for rule in rules[:len(merged)]
-            if len(rule[0]) == many and not any_holds(rows, holders, rule)]
+    return [[terms[atom] for atom in rule[0]] for rule in rules[:len(merged)] if not any_holds(rows, holders, rule)]
 
 
 def _small_store(stores):

@@ -12,7 +12,7 @@ from fillbooks.unifying import merged_rows
 
 def in_rows(rules):
     """Return the rows of these rules of one head each, and the list of the rules in these rows."""
-    return from_merged([merged_rows([], body + heads, None) for body, heads in rules])
+    return from_merged([merged_rows(body + heads, [], None) for body, heads in rules])
 
 
 def from_merged(merged):

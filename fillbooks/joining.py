@@ -67,16 +67,29 @@ def joined_forms(one, other):
     copies = [[_with_own_variables(rule, place) for rule in one] for place in (1, 2, 3, 4)]
     merged = []
     for rule, chosen in _choices(copies, other):
-        pairs = [(atom, own[1][0]) for atom, own in zip(rule[0], chosen)]
-        atoms = [atom for own in chosen for atom in own[0]] + [rule[1][0]]
-        merged.append(merged_rows(pairs, atoms, MOST_WORDS))
-    rows, rules = from_merged([told for told in merged if told is not None])
+        told = _joined_rows(rule, chosen)
+        if told is not None:
+            merged.append(told)
+    rows, rules = from_merged(merged)
     if any([len(rule[0]) > MOST_ATOMS for rule in rules]):
         raise TooMany("a body has too many atoms")
     told = fewest(rows, rules)
     if not is_book(tuple(told)):
         raise TooMany("what comes is no book")
     return in_form(told)
+
+
+def _joined_rows(rule, chosen):
+    """Return the rows of the rule that comes of a rule and the rules that tell its atoms; None if this cannot be."""
+    asked = list(rule[0])
+    many = len(asked)
+    told = [own[1][0] for own in chosen]
+    body = [atom for own in chosen for atom in own[0]]
+    merged = merged_rows(asked + told + body + [rule[1][0]], [(k, many + k) for k in range(many)], MOST_WORDS)
+    if merged is None:
+        return None
+    rows, homes, places = merged
+    return rows, homes, places[2 * many:]
 
 
 def _with_own_variables(rule, place):
@@ -106,13 +119,11 @@ def _choices(copies, other):
 
 def _can_be_told(atom, rule):
     """Tell whether the atom can be made the same as the head of the rule."""
-    return merged_rows([(atom, rule[1][0])], [], None) is not None
+    return merged_rows([atom, rule[1][0]], [(0, 1)], None) is not None
 
 
 def _one_of_each(lists):
     """Return all lists of one thing of each list."""
-    if [] in lists:
-        return []
     found = [[]]
     for things in lists:
         found = [chosen + [thing] for chosen in found for thing in things]

@@ -5,7 +5,7 @@ A fact is a tuple of its relation and the numbers of its values here.
 """
 
 from fillbooks.errors import TooMany
-from fillbooks.terms import in_order, replaced
+from fillbooks.terms import in_order, nth_variable, replaced
 from fillbooks.texts import text_of
 
 MOST_WAYS = 1000
@@ -92,7 +92,7 @@ class Ground:
         variables stand in the atom. What stands in the dict are lists of the values of the others.
         """
         own = in_order([atom])
-        marks = {name: str(k) for k, name in enumerate(own)}
+        marks = {name: nth_variable(k) for k, name in enumerate(own)}
         key = text_of(replaced(atom, marks)), tuple(known)
         if key not in self.kept:
             others = [k for k in range(len(own)) if k not in known]

@@ -64,15 +64,8 @@ def _is_plain(book):
 
 
 def _made_things(atoms):
-    """Return the list of all made things in these atoms, one for each place where one stands."""
-    found = []
-    todo = [term for atom in atoms for term in atom[1]]
-    while todo:
-        part = todo.pop()
-        if not isinstance(part, str) and part[1]:
-            found.append(part)
-            todo.extend(part[1])
-    return found
+    """Return the list of the made things that stand right in these atoms, one for each place where one stands."""
+    return [term for atom in atoms for term in atom[1] if not isinstance(term, str) and term[1]]
 
 
 def _first_that_does_not_lead(one, other):

@@ -80,11 +80,15 @@ class Reader:
         return told
 
     def _word(self, signs, longest):
-        """Read a word of these signs, behind which no other sign of a word stands."""
+        """Read a word of these signs.
+
+        Whatever reads on takes no other sign of a word behind it: one that is too much, or of the
+        other sort, is wrong there.
+        """
         start = self.at
         while self._stands_in(signs) and self.at < start + longest:
             self.at += 1
-        if self.at == start or self._stands_in(NAME_SIGNS) or self._stands_in(VARIABLE_SIGNS):
+        if self.at == start:
             raise InvalidText(self.at)
         return self.text[start:self.at]
 

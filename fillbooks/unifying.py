@@ -17,26 +17,28 @@ def unified(pairs):
     """Return the most general terms that make the pairs the same, as a dict; None if there are none."""
     if not _are_pairs(pairs):
         raise InvalidPairs("this is not a list of pairs of terms")
-    merged = merged_rows(pairs, [], MOST_TOLD_WORDS)
+    terms = [term for pair in pairs for term in pair]
+    merged = merged_rows(terms, [(2 * k, 2 * k + 1) for k in range(len(pairs))], MOST_TOLD_WORDS)
     if merged is None:
         return None
     rows, homes, _ = merged
-    terms = written(rows)
-    return {variable: terms[homes[variable]] for variable in sorted(homes)}
+    told = written(rows)
+    return {variable: told[homes[variable]] for variable in sorted(homes)}
 
 
-def merged_rows(pairs, others, bound):
-    """Return what comes of pairs and other terms where the two of each pair are made the same; None if they cannot be.
+def merged_rows(terms, same, bound):
+    """Return what comes of a list of terms where those of some pairs are made the same; None if they cannot be.
 
-    Told are the rows of it (see rows.py), a dict of the variables that stood in these terms and
-    the numbers of their rows, and the list of the numbers of the rows of the other terms. Any
-    string is a variable here, and atoms are terms. TooMany is raised if the term of some variable
-    has more names and variables than the bound; None is no bound.
+    same is the list of these pairs, of the numbers of the terms. Told are the rows of what comes
+    (see rows.py), a dict of the variables that stood in the terms and the numbers of their rows,
+    and the list of the numbers of the rows of the terms. Any string is a variable here, and atoms
+    are terms. TooMany is raised if the term of some variable has more names and variables than the
+    bound; None is no bound.
     """
-    if any([_are_apart(one, other) for one, other in pairs]):
+    if any([_are_apart(terms[one], terms[other]) for one, other in same]):
         return None
-    parts, inner = _numbered(pairs, others)
-    leaders = _merged(parts, inner, _sames(parts, len(pairs)))
+    parts, inner = _numbered(terms)
+    leaders = _merged(parts, inner, same + _same_variables(parts))
     if leaders is None:
         return None
     classes = _classes(parts, inner, leaders)
@@ -50,8 +52,7 @@ def merged_rows(pairs, others, bound):
         sizes = row_sizes(rows)
         if any([sizes[row] > bound for row in homes.values()]):
             raise TooMany("a term has too many names and variables")
-    first = 2 * len(pairs)
-    return rows, homes, [places[leader] for leader in leaders[first:first + len(others)]]
+    return rows, homes, [places[leader] for leader in leaders[:len(terms)]]
 
 
 def _are_pairs(value):
@@ -77,32 +78,45 @@ def _are_apart(one, other):
     return False
 
 
-def _numbered(pairs, others):
-    """Return a list of all parts of these terms, and for each one the numbers of those right in it.
+def _numbered(terms):
+    """Return a list of the parts of these terms, and for each one the numbers of those right in it.
 
-    The terms of the pairs stand first, those of a pair side by side, and the others behind them.
+    The terms stand first. A variable or a constant that stands in several made things is one part
+    of them all.
     """
-    parts = [term for pair in pairs for term in pair] + list(others)
+    parts = list(terms)
     inner = []
+    known = {}
     while len(inner) < len(parts):
         part = parts[len(inner)]
-        within = () if isinstance(part, str) else part[1]
-        inner.append(list(range(len(parts), len(parts) + len(within))))
-        parts.extend(within)
+        numbers = []
+        standing = () if isinstance(part, str) else part[1]
+        for within in standing:
+            word = _single_word(within)
+            number = known.get(word, len(parts))
+            if number == len(parts):
+                parts.append(within)
+            if word is not None:
+                known[word] = number
+            numbers.append(number)
+        inner.append(numbers)
     return parts, inner
 
 
-def _sames(parts, many):
-    """Return the pairs of numbers of those parts that have to be the same by themselves.
+def _single_word(term):
+    """Return a variable, or the name of a constant; None for a made thing."""
+    if isinstance(term, str):
+        return term
+    return None if term[1] else term[0]
 
-    They are the two terms of each of so many pairs, and a variable wherever it stands.
-    """
+
+def _same_variables(parts):
+    """Return the pairs of numbers of the parts that are one variable."""
     first = {}
-    same = [(2 * k, 2 * k + 1) for k in range(many)]
     for k, part in enumerate(parts):
         if isinstance(part, str):
-            same.append((first.setdefault(part, k), k))
-    return same
+            first.setdefault(part, k)
+    return [(first[part], k) for k, part in enumerate(parts) if isinstance(part, str) and first[part] != k]
 
 
 def _merged(parts, inner, same):

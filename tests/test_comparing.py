@@ -231,6 +231,11 @@ class TestParting(unittest.TestCase):
         other = rules(*[f"p({name}) -> q({name})" for name in names])
         told = parting(rules("p(X) -> q(X)"), other)
         check_parts(self, told, rules("p(X) -> q(X)"), other)
+        deep = rules("p(f(X, g(Y))) -> q(X)")
+        for text in ("p(f({0}, X)) -> q({0})", "p(f(X, g({0}))) -> q(X)", "p(f(X, g(Y))), r({0}) -> q(X)"):
+            other = rules(*[text.format(name) for name in names])
+            check_parts(self, parting(deep, other), deep, other)
+            check_parts(self, parting(other, deep), deep, other)
         one = rules("p(X, Y, Z, W) -> q(X)")
         other = rules("p(X, X, Y, Z) -> q(X)", "p(X, Y, X, Z) -> q(X)", "p(X, Y, Z, X) -> q(X)", "p(X, Y, Y, Z) -> q(X)",
                       "p(X, Y, Z, Y) -> q(X)", "p(X, Y, Z, Z) -> q(X)", *[f"p({name}, X, Y, Z) -> q({name})" for name in names[:9]],

@@ -37,6 +37,23 @@ class TestFill(unittest.TestCase):
         self.assertEqual(fill(rules("p(b, f(f(b))) -> q(c)"), store), [])
         self.assertEqual(fill(rules("p(a, f(b)), p(c, f) -> q(a, a)"), store), facts("q(a, a)"))
 
+    def test_made_of_one_thing_and_of_several(self):
+        """Also deep within, where nothing but the number of the things tells them apart."""
+        store = facts("p(f(f(a)))", "p(f(f(a, b)))", "p(f(f))", "p(f(f(a), b))", "p(f(g(f(b, a))))")
+        self.assertEqual(fill(rules("p(f(f(X))) -> q(X)"), store), facts("q(a)"))
+        self.assertEqual(fill(rules("p(f(f(X, Y))) -> q(X, Y)"), store), facts("q(a, b)"))
+        self.assertEqual(fill(rules("p(f(g(f(X)))) -> q(X)"), store), [])
+        self.assertEqual(fill(rules("p(f(f(X), Y)) -> q(X, Y)"), store), facts("q(a, b)"))
+        self.assertEqual(lays(read_rule("p(f(f)) -> q(a)"), store), [{}])
+
+    def test_constants_of_digits_beside_variables(self):
+        """What is found for one atom is not taken for another one that looks like it."""
+        store = facts("p(a, 0)", "p(b, b)", "p(1, a)", "p(0, 1)", "p(c, a)")
+        book = rules("p(X, X) -> same(X)", "p(X, 0) -> naught(X)", "p(0, X) -> from(X)", "p(X, Y) -> any(X, Y)", "p(0, 1) -> both(a)",
+                     "p(X, a) -> a(X)", "p(1, X) -> one(X)", "p(Y, X) -> turned(X, Y)")
+        for order in (book, book[::-1], book[3:] + book[:3]):
+            self.assertEqual(fill(order, store), slow_fill(book, store))
+
     def test_numbers_of_terms_are_told_apart(self):
         store = facts("p(a)", "p(a, b)", "p(a, b, c)", "p(a, b, c, d)")
         for many in range(1, 5):

@@ -166,6 +166,15 @@ class TestLeadsInto(unittest.TestCase):
         self.check(["p(X) -> q(f(X), g(X)), q(g(X), h(X)), q(h(X), k(X))"], ["p(X) -> q(m(X), l(X)), q(l(X), m(X))"], True, False)
         self.check(["p(X) -> q(X, f(X)), q(f(X), X), s(f(X))"], ["p(X) -> q(X, g(X)), q(g(X), X)", "p(X) -> q(X, h(X)), s(h(X))"], False, True)
 
+    def test_heads_that_hang_together_in_a_chain(self):
+        chain = ["p(X) -> q(X, f(X)), s(f(X), g(X)), t(g(X))"]
+        self.check(chain, ["p(X) -> q(X, h(X)), s(h(X), k(X)), t(l(X))"], False, True)
+        self.check(chain, ["p(X) -> q(X, h(X)), s(h(X), k(X))"], False, True)
+        self.check(chain, ["p(X) -> q(X, h(X)), s(k(X), l(X)), t(l(X))"], False, True)
+        self.check(chain, ["p(X) -> q(X, a), s(a, b), t(b)"], True, False)
+        self.check(chain, ["p(X) -> q(X, a), s(a, b), t(c)", "p(X) -> s(a, d), s(a, c), t(e)"], True, False)
+        self.check(chain, ["p(X) -> q(X, a), s(a, b), t(c)", "p(X) -> s(a, d), s(d, c), t(e)"], False, False)
+
     def test_each_rule_has_things_of_its_own(self):
         self.check(["p(X) -> q(X, f(X))", "p(X) -> s(X, g(X))"], ["p(X) -> q(X, h(X)), s(X, h(X))"], True, False)
         self.check(["p(X) -> q(X, f(X)), s(X, f(X))"], ["p(X) -> q(X, g(X))", "p(X) -> s(X, h(X))"], False, True)
@@ -190,6 +199,8 @@ class TestLeadsInto(unittest.TestCase):
         self.check(["p(X) -> q(X, f(X))"], [f"p({name}) -> q({name}, {name})" for name in names], False, False)
         self.check(["p(X) -> q(X, f(X))"], [f"p({name}) -> q({name}, g{name})" for name in names], False, False)
         self.check([f"p({name}) -> q({name})" for name in names], ["p(X) -> q(X)"], True, False)
+        self.check(["p(X, Y) -> q(X)"], [f"p({name}, X) -> q({name})" for name in names], False, True)
+        self.check(["p(X, Y) -> q(X)"], [f"p(X, Y), p(X, {name}) -> q(X)" for name in names], False, True)
 
     def test_beside_all_small_stores(self):
         """Of two variables in a rule, and two constants: if they do not lead for any store, they do not for one of these."""

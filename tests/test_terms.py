@@ -1,8 +1,9 @@
+import itertools
 import random
 import unittest
 
 from fillbooks.errors import InvalidTerm, InvalidWays
-from fillbooks.terms import check_term, put, variables_in
+from fillbooks.terms import check_term, nth_variable, put, variables_in
 from helpers import BAD_TERMS, GOOD_TERMS, chain, count, drawn_term, full_term, levels, unchanged, within_seconds
 
 A, B = ("a", ()), ("b", ())
@@ -201,6 +202,13 @@ class TestPut(unittest.TestCase):
         letters = "ABCDEFGHIJKLMNOPQRSTUVWXYZ"
         ways = {one + other: A for one in letters for other in letters}
         self.assertEqual(put(("f", ("AA", "ZZ", "A")), ways), ("f", (A, A, "A")))
+
+
+class TestNthVariable(unittest.TestCase):
+    def test_the_row_of_all_variables(self):
+        letters = "ABCDEFGHIJKLMNOPQRSTUVWXYZ"
+        wanted = ["".join(signs) for many in (1, 2, 3) for signs in itertools.product(letters, repeat=many)]
+        self.assertEqual([nth_variable(k) for k in range(len(wanted))], wanted)
 
 
 if __name__ == "__main__":
