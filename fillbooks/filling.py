@@ -1,7 +1,9 @@
 """What a book tells of a store, and the ways to lay a rule into one."""
 
 from fillbooks.books import check_book, check_rule, check_store
-from fillbooks.laying import Ground, Values, told_facts
+from fillbooks.laying import Ground, told_facts
+from fillbooks.numbering import Values
+from fillbooks.terms import in_order
 
 
 def fill(book, store):
@@ -9,8 +11,7 @@ def fill(book, store):
     check_book(book)
     check_store(store)
     values = Values()
-    ground = Ground(values, values.facts(store))
-    return values.written(told_facts(values, ground, book))
+    return values.written(told_facts(values, values.facts(store), book))
 
 
 def lays(rule, store):
@@ -18,9 +19,10 @@ def lays(rule, store):
     check_rule(rule)
     check_store(store)
     values = Values()
-    ground = Ground(values, values.facts(store))
-    variables, ways = ground.ways(rule[0])
-    names = sorted(variables)
+    body = rule[0]
+    names = sorted(in_order(body))
+    variables, ways = Ground(values, values.facts(store), list(body)).ways(body, names)
+    terms = values.terms([number for way in ways for number in way])
     places = [variables.index(name) for name in names]
-    rows = sorted([tuple([values.terms[way[k]] for k in places]) for way in ways])
+    rows = sorted([tuple([terms[way[place]] for place in places]) for way in ways])
     return [dict(zip(names, row)) for row in rows]

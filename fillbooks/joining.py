@@ -4,7 +4,8 @@ from fillbooks.books import check_book, check_store, is_book, is_relation, is_ro
 from fillbooks.errors import InvalidRelations, InvalidRow, TooMany
 from fillbooks.forms import fewest, formed, in_form
 from fillbooks.holding import from_merged
-from fillbooks.laying import Ground, Values, told_facts
+from fillbooks.laying import told_facts
+from fillbooks.numbering import Values
 from fillbooks.terms import in_order, nth_variable, replaced
 from fillbooks.unifying import merged_rows
 
@@ -25,8 +26,8 @@ def fill_row(books, store):
     values = Values()
     facts = values.facts(store)
     for book in books:
-        facts = told_facts(values, Ground(values, facts), book)
-        if any([values.names_of(fact) > MOST_NAMES for fact in facts]):
+        facts = told_facts(values, facts, book)
+        if any([values.names_of(row) > MOST_NAMES for rows in facts.values() for row in rows]):
             raise TooMany("a fact has too many names")
     return values.written(facts)
 

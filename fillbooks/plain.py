@@ -2,7 +2,8 @@
 
 from fillbooks.books import check_book, own_constants
 from fillbooks.errors import NotPlain
-from fillbooks.laying import Ground, Values, told_facts
+from fillbooks.laying import Ground, told_facts
+from fillbooks.numbering import Values
 from fillbooks.terms import in_order, nth_variable, replaced
 
 
@@ -107,8 +108,8 @@ def _tells_all(book, store, asked):
     kinds = [(atom[0], len(atom[1])) for atom in asked]
     chosen = [(body, [head for head in heads if (head[0], len(head[1])) in kinds]) for body, heads in book]
     values = Values()
-    facts = told_facts(values, Ground(values, values.facts(store)), [rule for rule in chosen if rule[1]])
-    return _three_agree(Ground(values, facts), (asked * 3)[:3])
+    facts = told_facts(values, values.facts(store), [rule for rule in chosen if rule[1]])
+    return _three_agree(Ground(values, facts, list(asked)), (asked * 3)[:3])
 
 
 def _three_agree(ground, atoms):
@@ -119,7 +120,7 @@ def _three_agree(ground, atoms):
     told as the bits of an integer.
     """
     names = [in_order([atom]) for atom in atoms]
-    first, second, third = [list(ground.grouped(atom, list(range(len(own))))) for atom, own in zip(atoms, names)]
+    first, second, third = [ground.rows(atom) for atom in atoms]
     in_second = [name for name in names[0] if name in names[1]]
     in_third = [name for name in names[0] if name in names[2]]
     both = [name for name in names[1] if name in names[2]]
