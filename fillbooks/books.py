@@ -1,6 +1,6 @@
 """Atoms, rules and books, and what else is made of them: facts, stores, rows of books."""
 
-from fillbooks.errors import InvalidBook, InvalidRule, InvalidStore
+from fillbooks.errors import InvalidBook, InvalidFact, InvalidRow, InvalidRule, InvalidStore
 from fillbooks.terms import has_form, in_order, is_name, is_term, names_in, variable_places
 
 MOST_PARTS = 4
@@ -28,6 +28,18 @@ def check_store(store):
     """Return None if this is a store; raise InvalidStore for anything else."""
     if not is_store(store):
         raise InvalidStore("this is not a store")
+
+
+def check_fact(fact):
+    """Return None if this is a fact; raise InvalidFact for anything else."""
+    if not is_fact(fact):
+        raise InvalidFact("this is not a fact")
+
+
+def check_row(books):
+    """Return None if this is a row of books; raise InvalidRow for anything else."""
+    if not is_row(books):
+        raise InvalidRow("this is not a row of books")
 
 
 def relations(book):
@@ -84,6 +96,22 @@ def is_relation(value):
     if not is_name(name) or not isinstance(number, int) or isinstance(number, bool):
         return False
     return 1 <= number <= MOST_PARTS
+
+
+def made_things(atoms):
+    """Return the list of the made things that stand right in these atoms, one for each place where one stands."""
+    return [term for atom in atoms for term in atom[1] if not isinstance(term, str) and term[1]]
+
+
+def without_made_things(facts):
+    """Return the list of those of these facts in which nothing made stands."""
+    return [fact for fact in facts if not made_things([fact])]
+
+
+def unlike_facts(store):
+    """Return the ascending list of the unlike facts of a store."""
+    ordered = sorted(store)
+    return [fact for at, fact in enumerate(ordered) if at == 0 or fact != ordered[at - 1]]
 
 
 def one_headed(book):

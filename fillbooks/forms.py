@@ -1,6 +1,7 @@
 """The least form of a book: the fewest rules of one head each, written so that there is just one."""
 
-from fillbooks.books import check_book, one_headed
+from fillbooks.books import check_book, is_book, one_headed
+from fillbooks.errors import TooMany
 from fillbooks.holding import in_rows, least_rules
 from fillbooks.rows import written
 from fillbooks.terms import in_order, nth_variable, replaced
@@ -22,13 +23,15 @@ def reach(book):
 def formed(book):
     """Return what least_form returns, without a look at what is passed."""
     rows, rules = in_rows(one_headed(book))
-    return in_form(fewest(rows, rules))
+    return in_form(_fewest(rows, rules))
 
 
-def fewest(rows, rules):
-    """Return the fewest rules that tell what these rules in rows tell, written out, in any order and with any names."""
-    terms = written(rows)
-    return [(tuple([terms[atom] for atom in body]), (terms[head],)) for body, head in least_rules(rows, rules)]
+def book_form(rows, rules):
+    """Return the least form of these rules in rows; raise TooMany if it is no book."""
+    told = _fewest(rows, rules)
+    if not is_book(tuple(told)):
+        raise TooMany("what comes is no book")
+    return in_form(told)
 
 
 def in_form(rules):
@@ -38,6 +41,12 @@ def in_form(rules):
         text, told = _least_order(rule)
         texts[text] = told
     return tuple([texts[text] for text in sorted(texts)])
+
+
+def _fewest(rows, rules):
+    """Return the fewest rules that tell what these rules in rows tell, written out, in any order and with any names."""
+    terms = written(rows)
+    return [(tuple([terms[atom] for atom in body]), (terms[head],)) for body, head in least_rules(rows, rules)]
 
 
 def _least_order(rule):

@@ -1,8 +1,8 @@
 """Books behind one another."""
 
-from fillbooks.books import check_book, check_store, is_book, is_relation, is_row
-from fillbooks.errors import InvalidRelations, InvalidRow, TooMany
-from fillbooks.forms import fewest, formed, in_form
+from fillbooks.books import check_book, check_row, check_store, is_relation
+from fillbooks.errors import InvalidRelations, TooMany
+from fillbooks.forms import book_form, formed, in_form
 from fillbooks.holding import from_merged
 from fillbooks.laying import told_facts
 from fillbooks.numbering import Values
@@ -27,7 +27,7 @@ def fill_row(books, store):
     facts = values.facts(store)
     for book in books:
         facts = told_facts(values, facts, book)
-        if any([values.names_of(row) > MOST_NAMES for rows in facts.values() for row in rows]):
+        if any([values.names_of(numbers) > MOST_NAMES for rows in facts.values() for numbers in rows]):
             raise TooMany("a fact has too many names")
     return values.written(facts)
 
@@ -42,10 +42,7 @@ def joined(one, other):
 def row(books):
     """Return the one book that fills every store as the books of a row do, in its least form."""
     check_row(books)
-    whole = formed(books[0])
-    for book in books[1:]:
-        whole = joined_forms(whole, formed(book))
-    return whole
+    return row_form(books)
 
 
 def identity(relations):
@@ -56,28 +53,28 @@ def identity(relations):
     return in_form([((atom,), (atom,)) for atom in atoms])
 
 
-def check_row(books):
-    """Return None if this is a row of books; raise InvalidRow for anything else."""
-    if not is_row(books):
-        raise InvalidRow("this is not a row of books")
+def row_form(books):
+    """Return what row returns, without a look at what is passed; the row may be longer."""
+    whole = formed(books[0])
+    for book in books[1:]:
+        whole = joined_forms(whole, formed(book))
+    return whole
 
 
 def joined_forms(one, other):
     """Return what joined returns for two least forms."""
-    # Each place of a body has its own copies of the rules: one rule may be chosen twice.
-    copies = [[_with_own_variables(rule, place) for rule in one] for place in (1, 2, 3, 4)]
-    merged = []
-    for rule, chosen in _choices(copies, other):
-        told = _joined_rows(rule, chosen)
-        if told is not None:
-            merged.append(told)
-    rows, rules = from_merged(merged)
+    rows, rules = from_merged(merged_choices(one, other))
     if any([len(rule[0]) > MOST_ATOMS for rule in rules]):
         raise TooMany("a body has too many atoms")
-    told = fewest(rows, rules)
-    if not is_book(tuple(told)):
-        raise TooMany("what comes is no book")
-    return in_form(told)
+    return book_form(rows, rules)
+
+
+def merged_choices(one, other):
+    """Return the rules that come of two least forms, one for each choice that can be, as from_merged is passed them."""
+    # Each place of a body has its own copies of the rules: one rule may be chosen twice.
+    copies = [[_with_own_variables(rule, place) for rule in one] for place in (1, 2, 3, 4)]
+    merged = [_joined_rows(rule, chosen) for rule, chosen in _choices(copies, other)]
+    return [told for told in merged if told is not None]
 
 
 def _joined_rows(rule, chosen):

@@ -1,6 +1,6 @@
 """Plain books, whose made things may bear any name, and what they lead into."""
 
-from fillbooks.books import check_book, own_constants
+from fillbooks.books import check_book, made_things, own_constants
 from fillbooks.errors import NotPlain
 from fillbooks.laying import Ground, told_facts
 from fillbooks.numbering import Values
@@ -50,11 +50,11 @@ def _check_plain(book):
 def _is_plain(book):
     used = {}
     for body, heads in book:
-        if _made_things(body):
+        if made_things(body):
             return False
         variables = sorted(in_order(body))
         made = {}
-        for name, parts in _made_things(heads):
+        for name, parts in made_things(heads):
             if not all([isinstance(part, str) for part in parts]) or sorted(parts) != variables:
                 return False
             if name in used or made.setdefault(name, parts) != parts:
@@ -62,11 +62,6 @@ def _is_plain(book):
         for name in made:
             used[name] = True
     return True
-
-
-def _made_things(atoms):
-    """Return the list of the made things that stand right in these atoms, one for each place where one stands."""
-    return [term for atom in atoms for term in atom[1] if not isinstance(term, str) and term[1]]
 
 
 def _first_that_does_not_lead(one, other):
@@ -79,18 +74,18 @@ def _first_that_does_not_lead(one, other):
     for body, heads in one:
         store = [replaced(atom, constants) for atom in body]
         store = [fact for k, fact in enumerate(store) if fact not in store[:k]]
-        asked = _without_made_things(heads, constants)
+        asked = _withoutmade_things(heads, constants)
         if not _tells_all(other, store, asked):
             return asked, store
     return None
 
 
-def _without_made_things(heads, constants):
+def _withoutmade_things(heads, constants):
     """Return the heads of a rule of a plain book with the constants put in, and a variable for each unlike made thing.
 
     Those of one name are the same.
     """
-    names = {name: nth_variable(k) for k, name in enumerate(sorted({part[0] for part in _made_things(heads)}))}
+    names = {name: nth_variable(k) for k, name in enumerate(sorted({part[0] for part in made_things(heads)}))}
     found = []
     for relation, terms in heads:
         found.append((relation, tuple([_without_made_thing(part, constants, names) for part in terms])))

@@ -212,6 +212,14 @@ BAD_ROWS = [
 ]
 BAD_ROWS += [[bad] for bad in BAD_BOOKS] + [[(), bad] for bad in BAD_BOOKS[::4]] + [[bad, ()] for bad in BAD_BOOKS[1::4]]
 
+BAD_NAMES = [None, True, 1, "", "P", "X", "p q", "abcdefghi", "p\n", A, [], ("p",), "p" * 2000]
+BAD_NUMBERS = [None, True, False, 0, 5, -1, 10 ** 29, "1", "", (1,), [1], {1: 1}]
+BAD_RELATIONS = [
+    None, True, False, 0, "", "p", "p1", (), [], {}, ("p",), ("p", 1, 1), ["p", 1], (1, "p"), {"p": 1}, [("p", 1)], (("p", 1),), ("X", "Y"),
+    ("p", (A,)), nested(50, lambda thing: (thing,)),
+]
+BAD_RELATIONS += [(name, 1) for name in BAD_NAMES] + [("p", number) for number in BAD_NUMBERS]
+
 
 def check_raises(test, error, bad_values, call):
     """Have the test fail if the call, of each of these values, does not raise the error, or changes the value."""

@@ -17,6 +17,11 @@ FUNCTIONS = {
     "joining.py": {"fill_row": ["books", "store"], "joined": ["one", "other"], "row": ["books"], "identity": ["relations"]},
     "plain.py": {"is_plain": ["book"], "leads_into": ["one", "other"], "lead_both_ways": ["one", "other"],
                  "no_lead": ["one", "other"]},
+    "questions.py": {"asked": ["question", "books"], "sure": ["book", "store"], "sure_form": ["book"],
+                     "never_surer": ["one", "other"]},
+    "behind.py": {"behind": ["one", "whole"], "no_behind": ["one", "whole"], "had_again": ["book", "relation"]},
+    "reasons.py": {"reasons": ["book", "store", "fact"], "needless": ["book", "store"],
+                   "changes": ["book", "store", "come", "go"]},
 }
 
 

@@ -7,13 +7,11 @@ from fillbooks.filling import fill
 from fillbooks.forms import least_form
 from fillbooks.joining import fill_row, identity, joined, row
 from fillbooks.texts import book_text, read_rule
-from helpers import (A, B, BAD_BOOKS, BAD_ROWS, BAD_STORES, GOOD_BOOKS, SMALL_RULE, alike_book, chain, check_raises, count,
+from helpers import (A, B, BAD_BOOKS, BAD_NAMES, BAD_NUMBERS, BAD_ROWS, BAD_STORES, GOOD_BOOKS, SMALL_RULE, alike_book, chain, check_raises, count,
                      drawn_book, drawn_store, facts, frozen, full_term, numbered_facts, rules, slow_fill, unchanged,
                      within_seconds)
 
 CHAIN = {"relations": (("p", 2), ("p", 1)), "told": (("p", 2), ("p", 1))}
-BAD_NAMES = [None, True, 1, "", "P", "X", "p q", "abcdefghi", "p\n", A, [], ("p",), "p" * 2000]
-BAD_NUMBERS = [None, True, False, 0, 5, -1, 10 ** 29, "1", "", (1,), [1], {1: 1}]
 
 
 def form(*lists):
