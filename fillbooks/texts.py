@@ -14,9 +14,7 @@ def term_text(term):
 
 def read_term(text):
     """Return the term of a text; raise InvalidText with the place of the first wrong character."""
-    reader = _reader(text)
-    term = reader.term()
-    reader.end()
+    term = read_any_term(text)
     if not is_term(term):
         raise InvalidTerm("what this text tells is not a term")
     return term
@@ -45,6 +43,14 @@ def book_text(book):
     """Return the texts of the rules of a book, each with a line end."""
     check_book(book)
     return "".join([text_of_rule(rule) + "\n" for rule in book])
+
+
+def read_any_term(text):
+    """Return what read_term returns, but whatever its numbers are; so it may be an atom, too."""
+    reader = _reader(text)
+    term = reader.term()
+    reader.end()
+    return term
 
 
 def text_of(term):

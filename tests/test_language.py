@@ -35,6 +35,7 @@ DECORATORS = {"property", "staticmethod", "classmethod", "setter"}
 BARRED_ATTRIBUTES = """items keys values pop update append clear extend insert remove reverse setdefault sort args encode
     decode hex fromhex format format_map mro""".split()
 CHANGING = "append clear extend insert pop remove reverse setdefault sort update add discard".split()
+OPERATORS = {"__eq__", "__len__", "__contains__", "__or__", "__rshift__"}
 BARRED_NODES = (ast.Global, ast.AsyncFunctionDef, ast.AsyncFor, ast.AsyncWith, ast.Await, ast.Div, ast.MatMult,
                 ast.Import, ast.TryStar)
 
@@ -249,26 +250,43 @@ class TestLanguage(unittest.TestCase):
         """Where a class has `__eq__`, as it will here, `any`, `sorted` and the like take lists."""
         self.assertEqual([ast.unparse(node) for node in nodes(path, ast.GeneratorExp, ast.Yield, ast.YieldFrom)], [])
 
-    def test_what_operators_run_changes_nothing(self):
-        """The functions that the operators of a Book run change only lists and dicts that they make themselves."""
-        known = {}
+    def test_what_operators_and_properties_run_changes_nothing(self):
+        """They, and all functions that they run, change only lists and dicts that they make themselves."""
+        known, kinds, todo = {}, [], []
         for path in files():
             for node in tree_of(path).body:
                 if isinstance(node, ast.FunctionDef):
                     known.setdefault(node.name, []).append(node)
-        todo, seen = ["joined", "least_form", "alike", "check_book"], set()
+                elif isinstance(node, ast.ClassDef):
+                    kinds.append(node)
+        for kind in kinds:
+            for node in kind.body:
+                if isinstance(node, ast.FunctionDef) and (node.name in OPERATORS or node.decorator_list):
+                    self.assertEqual(sorted(changed_names(node)), [], node.name)
+                    todo += self.called(node)
+        self.assertLessEqual({"alike", "joined", "_check_is_book", "Book"}, set(todo))
+        todo, seen = todo + ["check_book"], set()
         while todo:
             name = todo.pop()
             if name in seen:
                 continue
             seen.add(name)
-            for function in known[name]:
+            for function in known.get(name, []):
                 self.assertEqual(sorted(changed_names(function) - made_names(function)), [], name)
-                calls = [node.func.id for node in ast.walk(function)
-                         if isinstance(node, ast.Call) and isinstance(node.func, ast.Name)]
-                self.assertFalse(set(calls) & {arg.arg for arg in function.args.args}, name)
-                todo += [call for call in calls if call in known]
+                self.assertFalse(set(self.called(function)) & {arg.arg for arg in function.args.args}, name)
+                todo += self.called(function)
+        self.assertIn("merged_rows", seen)
 
+    def called(self, function):
+        """The names that a function calls."""
+        return [node.func.id for node in ast.walk(function) if isinstance(node, ast.Call) and isinstance(node.func, ast.Name)]
+
+    def test_properties_are_not_assigned(self):
+        """Not in any class: an attribute of that name would have to have a setter."""
+        names = {node.name for path in files() for node in nodes(path, ast.FunctionDef) if node.decorator_list}
+        self.assertEqual(names, {"rules", "store", "books"})
+        for path in files():
+            self.assertEqual([node.attr for node in nodes(path, ast.Attribute) if node.attr in names and not isinstance(node.ctx, ast.Load)], [])
 
 if __name__ == "__main__":
     unittest.main()
